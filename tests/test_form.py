@@ -1,0 +1,105 @@
+"""[1] and the form of the package: what it holds, what it draws from, what it binds."""
+
+import ast
+import pathlib
+import re
+import subprocess
+import sys
+import unittest
+
+TOP = pathlib.Path(__file__).resolve().parent.parent
+PACKAGE = TOP / "strewn"
+FILES = sorted(PACKAGE.rglob("*.py"))
+
+OWN_NAMES = set("""
+    len range enumerate zip min max sum abs sorted reversed int str bool list tuple dict set frozenset isinstance
+    ord repr any all divmod Exception ValueError TypeError KeyError IndexError LookupError ZeroDivisionError
+    ArithmeticError OverflowError RuntimeError NotImplementedError AttributeError StopIteration
+""".split())
+WORDS_OUT = re.compile(
+    r"\b(type|typing|typing_extensions|enum|Enum|IntEnum|StrEnum|Flag|IntFlag|Generic|Protocol|ABC|ABCMeta"
+    r"|namedtuple|NamedTuple|TypedDict|TYPE_CHECKING|abstractmethod)\b|dataclass|overload|contextmanager"
+)
+KINDS_OUT = (
+    ast.Import, ast.With, ast.Match, ast.Delete, ast.Global, ast.Nonlocal, ast.Assert, ast.Yield, ast.YieldFrom,
+    ast.AsyncFunctionDef, ast.Await, ast.SetComp, ast.DictComp, ast.GeneratorExp, ast.NamedExpr, ast.Starred, ast.Div,
+)
+
+
+def tree_of(file):
+    return ast.parse(file.read_text(encoding="ascii"))
+
+
+def bound_names(tree):
+    names = set()
+    for node in ast.walk(tree):
+        if isinstance(node, (ast.FunctionDef, ast.ClassDef)):
+            names.add(node.name)
+        elif isinstance(node, ast.arg):
+            names.add(node.arg)
+        elif isinstance(node, ast.alias):
+            names.add(node.asname or node.name)
+        elif isinstance(node, ast.ExceptHandler) and node.name:
+            names.add(node.name)
+        elif isinstance(node, ast.Name) and isinstance(node.ctx, ast.Store):
+            names.add(node.id)
+    return names
+
+
+class Files(unittest.TestCase):
+    def test_only_files_of_the_program(self):
+        self.assertIn(PACKAGE / "__init__.py", FILES)
+        for path in PACKAGE.rglob("*"):
+            if "__pycache__" not in path.parts:
+                self.assertTrue(path.is_dir() or re.fullmatch(r"(__init__|[a-z][a-z0-9_]*)\.py", path.name), path)
+
+    def test_signs_and_lengths(self):
+        for file in FILES:
+            text = file.read_bytes().decode("ascii")
+            self.assertTrue(all(sign == "\n" or " " <= sign <= "~" for sign in text), file)
+            self.assertLessEqual(text.count("\n"), 400, file)
+            self.assertLessEqual(max([len(line) for line in text.split("\n")]), 120, file)
+            self.assertIsNone(WORDS_OUT.search(text), file)
+
+    def test_functions_are_short(self):
+        for file in FILES:
+            for node in ast.walk(tree_of(file)):
+                if isinstance(node, ast.FunctionDef):
+                    self.assertLessEqual(node.end_lineno - node.lineno + 1, 40, (file, node.name))
+
+
+class Language(unittest.TestCase):
+    def test_draws_from_the_package_alone(self):
+        for file in FILES:
+            for node in ast.walk(tree_of(file)):
+                if isinstance(node, ast.ImportFrom):
+                    self.assertEqual(node.level, 0, file)
+                    self.assertTrue(node.module.startswith("strewn."), (file, node.module))
+
+    def test_no_other_names_of_pythons_own(self):
+        for file in FILES:
+            tree = tree_of(file)
+            bound = bound_names(tree)
+            self.assertEqual(bound & OWN_NAMES, set(), file)
+            used = {node.id for node in ast.walk(tree) if isinstance(node, ast.Name)}
+            self.assertEqual(used - bound - OWN_NAMES, set(), file)
+            for name in bound:
+                self.assertTrue(name == "__init__" or not name.startswith("_"), (file, name))
+
+    def test_no_kinds_that_are_out(self):
+        for file in FILES:
+            for node in ast.walk(tree_of(file)):
+                self.assertNotIsInstance(node, KINDS_OUT, file)
+                if isinstance(node, ast.Constant):
+                    self.assertNotIsInstance(node.value, (float, complex, bytes), file)
+
+
+class Init(unittest.TestCase):
+    def test_binds_nothing(self):
+        asked = "import strewn; print([name for name in vars(strewn) if not name.startswith('__')])"
+        said = subprocess.run([sys.executable, "-c", asked], cwd=TOP, capture_output=True, text=True, check=True)
+        self.assertEqual(said.stdout.strip(), "[]")
+
+
+if __name__ == "__main__":
+    unittest.main()
