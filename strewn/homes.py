@@ -1,6 +1,7 @@
 """Homes of keys: the places that rules tell."""
 
 from strewn.errors import BadKey, BadRule, BadSize
+from strewn.powers import power
 
 MOST_KEY = 999999
 LEAST_SIZE = 2
@@ -59,16 +60,18 @@ def check_key(key):
         raise BadKey("no key: a whole number from 0 to 999999 is asked for")
 
 
+def check_keys(keys):
+    seen = {}
+    for key in keys:
+        check_key(key)
+        if key in seen:
+            raise BadKey("a key is told twice")
+        seen[key] = True
+
+
 def check_size(size):
     if not is_whole(size, LEAST_SIZE, MOST_SIZE):
         raise BadSize("no size: a whole number from 2 to 64 is asked for")
-
-
-def two_to_the_power(bits):
-    power = 1
-    for step in range(bits):
-        power = power * 2
-    return power
 
 
 # Apart from home, since growing tables reckon homes by sizes that home refuses.
@@ -76,9 +79,9 @@ def reckon_home(rule, key, size):
     if rule[0] == "times":
         return (rule[1] * key + rule[2]) % size
     if rule[0] == "high":
-        power = two_to_the_power(rule[2])
-        rest = (rule[1] * key) % power
-        return (rest * size) // power
+        whole = power(2, rule[2])
+        rest = (rule[1] * key) % whole
+        return (rest * size) // whole
     numbers = rule[1]
     return numbers[key % len(numbers)] % size
 

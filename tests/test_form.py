@@ -1,6 +1,7 @@
 """[1] and the form of the package: what it holds, what it draws from, what it binds."""
 
 import ast
+import builtins
 import pathlib
 import re
 import subprocess
@@ -20,6 +21,11 @@ WORDS_OUT = re.compile(
     r"\b(type|typing|typing_extensions|enum|Enum|IntEnum|StrEnum|Flag|IntFlag|Generic|Protocol|ABC|ABCMeta"
     r"|namedtuple|NamedTuple|TypedDict|TYPE_CHECKING|abstractmethod)\b|dataclass|overload|contextmanager"
 )
+METHODS = set("""
+    append clear copy count endswith extend find get index insert isalnum isalpha isdigit islower isspace isupper
+    items join keys ljust lower lstrip partition pop remove replace reverse rfind rjust rpartition rsplit rstrip
+    setdefault split splitlines startswith strip update upper values zfill bit_length
+""".split())
 KINDS_OUT = (
     ast.Import, ast.With, ast.Match, ast.Delete, ast.Global, ast.Nonlocal, ast.Assert, ast.Yield, ast.YieldFrom,
     ast.AsyncFunctionDef, ast.Await, ast.SetComp, ast.DictComp, ast.GeneratorExp, ast.NamedExpr, ast.Starred, ast.Div,
@@ -85,6 +91,42 @@ class Language(unittest.TestCase):
             self.assertEqual(used - bound - OWN_NAMES, set(), file)
             for name in bound:
                 self.assertTrue(name == "__init__" or not name.startswith("_"), (file, name))
+
+    def test_nothing_is_called_like_pythons_own(self):
+        for file in FILES:
+            bound = bound_names(tree_of(file)) - {"__init__"}
+            self.assertEqual(bound & set(dir(builtins)), set(), file)
+
+    def test_methods_and_values(self):
+        own = set()
+        for file in FILES:
+            for node in ast.walk(tree_of(file)):
+                if isinstance(node, ast.ClassDef):
+                    own |= {part.name for part in node.body if isinstance(part, ast.FunctionDef)}
+                elif isinstance(node, ast.Attribute) and isinstance(node.ctx, ast.Store):
+                    own.add(node.attr)
+        for file in FILES:
+            for node in ast.walk(tree_of(file)):
+                if isinstance(node, ast.Attribute):
+                    self.assertIn(node.attr, METHODS | own, file)
+
+    def test_is_and_powers(self):
+        for file in FILES:
+            for node in ast.walk(tree_of(file)):
+                if isinstance(node, ast.Compare):
+                    for sign, right in zip(node.ops, node.comparators):
+                        if isinstance(sign, (ast.Is, ast.IsNot)):
+                            self.assertIn(ast.unparse(right), ("None", "True", "False"), file)
+                if isinstance(node, ast.BinOp) and isinstance(node.op, ast.Pow):
+                    self.assertIsInstance(node.right, ast.Constant, file)
+
+    def test_one_target_and_no_else_behind_a_loop(self):
+        for file in FILES:
+            for node in ast.walk(tree_of(file)):
+                if isinstance(node, ast.Assign):
+                    self.assertEqual(len(node.targets), 1, file)
+                if isinstance(node, (ast.For, ast.While)):
+                    self.assertEqual(node.orelse, [], file)
 
     def test_no_kinds_that_are_out(self):
         for file in FILES:
