@@ -1,9 +1,9 @@
 """Averages: ways and looks by first come, reckoned exactly over all scatterings."""
 
-from strewn.errors import BadSize, TooMany
+from strewn.errors import TooMany
 from strewn.firsts import first_places
 from strewn.fractions import fraction
-from strewn.homes import check_size, is_whole
+from strewn.homes import check_count, check_size
 from strewn.powers import power
 from strewn.rings import way_on
 
@@ -12,8 +12,7 @@ MOST_SCATTERINGS = 4096
 
 def check_many(size, many, least):
     check_size(size)
-    if not is_whole(many, least, size - 1):
-        raise BadSize("no count of keys that has room in this size")
+    check_count(many, least, size - 1)
 
 
 def starts_of(number, size, many):

@@ -74,6 +74,11 @@ def check_size(size):
         raise BadSize("no size: a whole number from 2 to 64 is asked for")
 
 
+def check_count(count, least, most):
+    if not is_whole(count, least, most):
+        raise BadSize("a count, a step or a limit lies beyond its bounds")
+
+
 # Apart from home, since growing tables reckon homes by sizes that home refuses.
 def reckon_home(rule, key, size):
     if rule[0] == "times":

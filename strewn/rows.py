@@ -28,6 +28,10 @@ def stands_in(rule, places, key):
     return places[last_look(rule, places, key)] == key
 
 
+def keys_in(places):
+    return sorted([key for key in places if key is not None])
+
+
 def is_full(places):
     return places.count(None) <= 1
 
@@ -89,7 +93,7 @@ class Row:
         return way_of(self.rule, key, place, len(self.places)) + 1
 
     def all_told(self):
-        return sorted([key for key in self.places if key is not None])
+        return keys_in(self.places)
 
     def lay(self):
         return list(self.places)

@@ -2,8 +2,6 @@
 
 import itertools
 
-from strewn.homes import home
-
 RULES = (
     ("times", 1, 0),
     ("times", 7, 5),
@@ -30,13 +28,29 @@ def mixed(keys, turn):
     return sorted(keys, key=lambda key: (key * 31337 + 17) * (turn * 7919 + 101) % 1000003)
 
 
+def drawn(turn):
+    """A function that tells one number behind the other, the same each time: the next one below what is asked."""
+    state = [turn * 2654435761 + 12345]
+
+    def number(below):
+        state[0] = (state[0] * 6364136223846793005 + 1442695040888963407) % 2 ** 64
+        return (state[0] >> 33) % below
+
+    return number
+
+
+def home_of(rule, key, size):
+    """By the words of [12], for any size."""
+    if rule[0] == "times":
+        return (rule[1] * key + rule[2]) % size
+    if rule[0] == "high":
+        return rule[1] * key % 2 ** rule[2] * size // 2 ** rule[2]
+    return rule[1][key % len(rule[1])] % size
+
+
 def way(rule, key, place, size):
-    steps = 0
-    here = home(rule, key, size)
-    while here != place:
-        here = 0 if here == size - 1 else here + 1
-        steps += 1
-    return steps
+    start = home_of(rule, key, size)
+    return place - start if start <= place else place + size - start
 
 
 def goes_ahead(rule, size, one, other, place):
@@ -51,7 +65,7 @@ def is_lay(rule, size, keys, lay):
         return False
     for own, key in enumerate(lay):
         if key is not None:
-            place = home(rule, key, size)
+            place = home_of(rule, key, size)
             while place != own:
                 if lay[place] is None or not goes_ahead(rule, size, lay[place], key, place):
                     return False

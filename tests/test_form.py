@@ -110,6 +110,44 @@ class Language(unittest.TestCase):
                 if isinstance(node, ast.Attribute):
                     self.assertIn(node.attr, METHODS | own, file)
 
+    def test_no_name_is_a_method_and_a_value(self):
+        methods = set()
+        values = set()
+        for file in FILES:
+            for node in ast.walk(tree_of(file)):
+                if isinstance(node, ast.ClassDef):
+                    methods |= {part.name for part in node.body if isinstance(part, ast.FunctionDef)}
+                elif isinstance(node, ast.Attribute) and isinstance(node.ctx, ast.Store):
+                    values.add(node.attr)
+        self.assertEqual(methods & values, set())
+        # A value is called like nothing that a text, a number, a list or a dict has.
+        for kind in (str, int, list, tuple, dict, set, frozenset, bytes, bytearray):
+            self.assertEqual((values | methods - {"__init__"}) & set(dir(kind)), set(), kind)
+
+    def test_no_two_files_draw_from_one_another(self):
+        drawn = {}
+        for file in FILES:
+            nodes = [node for node in ast.walk(tree_of(file)) if isinstance(node, ast.ImportFrom)]
+            drawn["strewn." + file.stem] = {node.module for node in nodes}
+        while drawn:
+            ready = [name for name, others in drawn.items() if not others & set(drawn)]
+            self.assertNotEqual(ready, [], drawn)
+            for name in ready:
+                drawn.pop(name)
+
+    def test_names_are_drawn_from_the_file_that_defines_them(self):
+        defined = {}
+        for file in FILES:
+            defined["strewn." + file.stem] = {getattr(node, "name", None) for node in tree_of(file).body}
+        for file in FILES:
+            tree = tree_of(file)
+            used = {node.id for node in ast.walk(tree) if isinstance(node, ast.Name)}
+            for node in ast.walk(tree):
+                if isinstance(node, ast.ImportFrom):
+                    names = {alias.name for alias in node.names}
+                    self.assertEqual(names - defined[node.module], set(), file)
+                    self.assertEqual(names - used, set(), file)
+
     def test_is_and_powers(self):
         for file in FILES:
             for node in ast.walk(tree_of(file)):
